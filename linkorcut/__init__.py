@@ -1,0 +1,1 @@
+"""Linkorcut: a play on nets, and who wins it."""
