@@ -19,6 +19,10 @@ OWN_NAMES = (
     "len range enumerate zip min max sum abs sorted reversed int str bool list tuple dict set isinstance ord repr "
     "any all divmod Exception ValueError TypeError KeyError IndexError LookupError ZeroDivisionError "
     "ArithmeticError OverflowError RuntimeError NotImplementedError StopIteration").split()
+METHODS = (
+    "append clear copy count endswith extend find get index insert isalnum isalpha isdigit islower isspace isupper "
+    "items join keys ljust lower lstrip partition pop remove replace reverse rfind rjust rpartition rsplit rstrip "
+    "setdefault split splitlines startswith strip update upper values zfill bit_length").split()
 DUNDERS = ["__init__", "__eq__", "__repr__", "__str__", "__len__"]
 WORDS = re.compile(
     r"\b(type|typing|typing_extensions|enum|Enum|IntEnum|StrEnum|Flag|IntFlag|Generic|Protocol|ABC|ABCMeta|"
@@ -40,6 +44,21 @@ def bound(path):
             names.append(node.name)
         if isinstance(node, ast.Assign):
             names.append(node.targets[0].id)
+    return names
+
+
+def drawn_from(path):
+    """The names of the files that a file imports from."""
+    body = ast.parse(path.read_text()).body
+    return [node.module.split(".")[1] + ".py" for node in body if isinstance(node, ast.ImportFrom)]
+
+
+def own_methods():
+    """The names of all methods of the package's classes."""
+    names = []
+    for name, node in walked():
+        if isinstance(node, ast.ClassDef):
+            names.extend(each.name for each in node.body if isinstance(each, ast.FunctionDef))
     return names
 
 
@@ -104,6 +123,40 @@ class Language(unittest.TestCase):
                 for each in node.names:
                     self.assertIsNone(each.asname, where)
                     self.assertIn(each.name, defined, where)
+
+    def test_no_two_files_draw_from_one_another(self):
+        for path in FILES:
+            met = drawn_from(path)
+            for name in met:
+                met.extend(each for each in drawn_from(PACKAGE / name) if each not in met)
+            self.assertNotIn(path.name, met)
+
+    def test_no_local_is_called_like_an_import(self):
+        for path in FILES:
+            tree = ast.parse(path.read_text())
+            brought = [each.name for node in tree.body if isinstance(node, ast.ImportFrom) for each in node.names]
+            for node in ast.walk(tree):
+                if isinstance(node, ast.Name) and isinstance(node.ctx, ast.Store):
+                    self.assertNotIn(node.id, brought, (path.name, node.lineno))
+                if isinstance(node, ast.arg):
+                    self.assertNotIn(node.arg, brought, (path.name, node.lineno))
+                    self.assertFalse(hasattr(builtins, node.arg), (path.name, node.lineno))
+
+    def test_methods_and_values(self):
+        own = own_methods()
+        for name, node in walked():
+            if isinstance(node, ast.Call) and isinstance(node.func, ast.Attribute):
+                self.assertIn(node.func.attr, METHODS + own, (name, node.lineno))
+            if isinstance(node, ast.Attribute) and isinstance(node.ctx, ast.Store):
+                self.assertNotIn(node.attr, METHODS + own, (name, node.lineno))
+
+    def test_is_stands_beside_none_and_truths(self):
+        for name, node in walked():
+            if isinstance(node, ast.Compare):
+                for sign, beside in zip(node.ops, node.comparators):
+                    if isinstance(sign, (ast.Is, ast.IsNot)):
+                        self.assertIsInstance(beside, ast.Constant, (name, node.lineno))
+                        self.assertIn(beside.value, (None, True, False), (name, node.lineno))
 
 
 if __name__ == "__main__":
