@@ -33,6 +33,13 @@ def done_by(net, side, tie):
     return taken_out(net, tie)
 
 
+def other_side(side):
+    """The side that a side plays against."""
+    if side == "linker":
+        return "cutter"
+    return "linker"
+
+
 def all_out(net, row):
     """The net without the ties of a row."""
     # Made anew at first, so that of the empty row, too, a net is told that is the asker's own.

@@ -124,3 +124,109 @@ def rest_rank(net, row):
 
 def plain_rank(net, row):
     return len(row)
+
+
+RANKS = {"linker": tree_rank, "cutter": rest_rank}
+SIDES = ["linker", "cutter"]
+
+
+def other(side):
+    return SIDES[1 - SIDES.index(side)]
+
+
+def free(net, counted, row):
+    return counted(net, row) == len(row)
+
+
+def reach(net, counted, row):
+    """What a row reaches, by a way of counting ranks."""
+    rank = counted(net, row)
+    return [tie for tie in with_thought(net) if tie in row or counted(net, row + [tie]) <= rank]
+
+
+def is_paper(net, side, paper):
+    """Whether a paper of a side stands, word by word."""
+    counted = RANKS[side]
+    for row in paper:
+        if [name for name in row if name not in names(net)] or row != sorted(set(row)):
+            return False
+    ones, others = paper
+    if set(ones) & set(others) or not free(net, counted, ones) or not free(net, counted, others):
+        return False
+    return reach(net, counted, ones) == reach(net, counted, others) and THOUGHT in reach(net, counted, ones)
+
+
+def drawn(net, row):
+    """The net with the ties of a row drawn together, each place called by the least one of its part."""
+    first = {place: part[0] for part in parts(net, row) for place in part}
+    ties = []
+    for name, one, other_end in net[1]:
+        if name not in row:
+            ties.append((name,) + tuple(sorted([first[one], first[other_end]])))
+    return (tuple(sorted([first[net[0][0]], first[net[0][1]]])), ties)
+
+
+def behind(net, side, tie):
+    """The net behind a side's taking of a tie."""
+    if side == "linker":
+        return drawn(net, [tie])
+    return (net[0], [each for each in net[1] if each[0] != tie])
+
+
+def won(net):
+    """The side that has won a net as it lies, or None."""
+    if net[0][0] == net[0][1]:
+        return "linker"
+    if net[0][1] not in met_from(net[0][0], pairs(net, names(net))):
+        return "cutter"
+    return None
+
+
+def played(net, begins, seen=None):
+    """The winner where a side begins, all plays gone through."""
+    seen = {} if seen is None else seen
+    key = (net[0], tuple(net[1]), begins)
+    if key not in seen:
+        seen[key] = won(net)
+        if seen[key] is None:
+            found = [played(behind(net, begins, tie), other(begins), seen) for tie in names(net)]
+            seen[key] = begins if begins in found else other(begins)
+    return seen[key]
+
+
+def played_word(net):
+    """The word of the outcome, all plays gone through."""
+    seen = {}
+    winners = [played(net, side, seen) for side in SIDES]
+    return winners[0] if winners[0] == winners[1] else "first"
+
+
+def steps(counts):
+    """Steps one behind another from pole to pole, each of so many ties side by side."""
+    ties = []
+    for place, count in enumerate(counts):
+        ties.extend([(place, place + 1)] * count)
+    return ((0, len(counts)), [(3 * name + 1, one, end) for name, (one, end) in enumerate(ties)])
+
+
+def word_of_steps(counts):
+    """With a spare tie in each step the linker needs none; of two steps without one the cutter always gets one."""
+    bare = len([count for count in counts if count == 1])
+    if 0 in counts or bare > 1:
+        return "cutter"
+    return "first" if bare == 1 else "linker"
+
+
+def strands(counts):
+    """Strands side by side from pole to pole, each of so many ties one behind another."""
+    ties, place = [], 2
+    for count in counts:
+        ends = [0] + list(range(place, place + count - 1)) + [1]
+        place += count - 1
+        ties.extend(zip(ends, ends[1:]))
+    return ((0, 1), [(2 * name, min(pair), max(pair)) for name, pair in enumerate(ties)])
+
+
+def word_of_strands(counts):
+    """Strands of one tie are what counts: the others the cutter can always part in answer."""
+    return ["cutter", "first", "linker"][min(counts.count(1), 2)]

@@ -23,16 +23,6 @@ def in_order(net):
     return right and ties == sorted(ties) and all(type(tie) is tuple and tie[1] <= tie[2] for tie in ties)
 
 
-def drawn_by_hand(net, row):
-    """The net with the ties of a row drawn together, each place called by the least one of its part."""
-    first = {place: part[0] for part in samples.parts(net, row) for place in part}
-    ties = []
-    for name, one, other in net[1]:
-        if name not in row:
-            ties.append((name,) + tuple(sorted([first[one], first[other]])))
-    return (tuple(sorted([first[net[0][0]], first[net[0][1]]])), ties)
-
-
 class TakenOut(unittest.TestCase):
 
     def test_ordinary(self):
@@ -120,7 +110,7 @@ class Drawn(unittest.TestCase):
         for net in nets():
             for tie in samples.names(net):
                 told = drawn(net, tie)
-                self.assertEqual(told, drawn_by_hand(net, [tie]))
+                self.assertEqual(told, samples.drawn(net, [tie]))
                 self.assertTrue(in_order(told))
 
 
@@ -195,7 +185,7 @@ class Rows(unittest.TestCase):
         for net in nets():
             row = samples.names(net)
             self.assertEqual(all_out(net, row), (net[0], []))
-            self.assertEqual(all_drawn(net, row), drawn_by_hand(net, row))
+            self.assertEqual(all_drawn(net, row), samples.drawn(net, row))
 
     def test_the_empty_row(self):
         for net in nets():
@@ -220,7 +210,7 @@ class Rows(unittest.TestCase):
             rows.append((net, samples.mixed(samples.names(net), 3)[:4]))
         for net, row in rows:
             out = (net[0], [tie for tie in net[1] if tie[0] not in row])
-            together = drawn_by_hand(net, row)
+            together = samples.drawn(net, row)
             for order in itertools.permutations(row):
                 self.assertEqual(all_out(net, list(order)), out)
                 self.assertEqual(all_drawn(net, list(order)), together)
@@ -239,9 +229,9 @@ class Rows(unittest.TestCase):
     def test_somewhat_beyond_the_bounds(self):
         net = ((0, 10), [(name, name % 10, name % 10 + 1) for name in range(18)])
         self.assertEqual(taken_out(net, 17), (net[0], net[1][:17]))
-        self.assertEqual(drawn(net, 17), drawn_by_hand(net, [17]))
+        self.assertEqual(drawn(net, 17), samples.drawn(net, [17]))
         self.assertEqual(all_out(net, list(range(3))), (net[0], net[1][3:]))
-        self.assertEqual(all_drawn(net, list(range(3))), drawn_by_hand(net, [0, 1, 2]))
+        self.assertEqual(all_drawn(net, list(range(3))), samples.drawn(net, [0, 1, 2]))
 
 
 class KeptApart(unittest.TestCase):

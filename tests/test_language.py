@@ -10,7 +10,7 @@ PACKAGE = pathlib.Path(__file__).resolve().parent.parent / "linkorcut"
 FILES = sorted(PACKAGE.glob("*.py"))
 
 NODES = (
-    "Module FunctionDef ClassDef arguments arg Return Assign AugAssign For While If Raise Try ExceptHandler "
+    "Module FunctionDef ClassDef arguments arg keyword Return Assign AugAssign For While If Raise Try ExceptHandler "
     "ImportFrom alias Expr Pass Break Continue BoolOp BinOp UnaryOp Lambda IfExp Dict Set ListComp comprehension "
     "Compare Call FormattedValue JoinedStr Constant Attribute Subscript Name List Tuple Slice Load Store "
     "And Or Add Sub Mult Mod Pow LShift RShift BitOr BitXor BitAnd FloorDiv Invert Not UAdd USub "
@@ -23,6 +23,9 @@ METHODS = (
     "append clear copy count endswith extend find get index insert isalnum isalpha isdigit islower isspace isupper "
     "items join keys ljust lower lstrip partition pop remove replace reverse rfind rjust rpartition rsplit rstrip "
     "setdefault split splitlines startswith strip update upper values zfill bit_length").split()
+KEYWORDS = {
+    "sorted": ("key", "reverse"), "min": ("key", "default"), "max": ("key", "default"), "sum": ("start",),
+    "enumerate": ("start",), "zip": ("strict",)}
 DUNDERS = ["__init__", "__eq__", "__repr__", "__str__", "__len__"]
 WORDS = re.compile(
     r"\b(type|typing|typing_extensions|enum|Enum|IntEnum|StrEnum|Flag|IntFlag|Generic|Protocol|ABC|ABCMeta|"
@@ -112,6 +115,13 @@ class Language(unittest.TestCase):
                     self.assertFalse(hasattr(builtins, node.id), where)
                 elif hasattr(builtins, node.id):
                     self.assertIn(node.id, OWN_NAMES, where)
+
+    def test_keywords(self):
+        for name, node in walked():
+            if isinstance(node, ast.Call):
+                allowed = KEYWORDS.get(getattr(node.func, "id", None), ())
+                for each in node.keywords:
+                    self.assertIn(each.arg, allowed, (name, node.lineno))
 
     def test_imports(self):
         for name, node in walked():
