@@ -1,6 +1,6 @@
 """Ties taken out of a net, and ties drawn together."""
 
-from linkorcut.nets import ends_of, put_in_order
+from linkorcut.nets import ends_of, own_net, put_in_order
 
 
 def without(net, tie):
@@ -43,7 +43,7 @@ def other_side(side):
 def all_out(net, row):
     """The net without the ties of a row."""
     # Made anew at first, so that of the empty row, too, a net is told that is the asker's own.
-    left = put_in_order(net[0], net[1])
+    left = own_net(net)
     for tie in row:
         left = taken_out(left, tie)
     return left
@@ -51,7 +51,7 @@ def all_out(net, row):
 
 def all_drawn(net, row):
     """The net in which the ties of a row are drawn together."""
-    left = put_in_order(net[0], net[1])
+    left = own_net(net)
     for tie in row:
         left = drawn(left, tie)
     return left

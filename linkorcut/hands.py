@@ -2,7 +2,7 @@
 
 from linkorcut.deeds import done_by, other_side
 from linkorcut.errors import NoPaper, Over
-from linkorcut.nets import names_of, put_in_order
+from linkorcut.nets import names_of, own_net
 from linkorcut.outcomes import outcome
 from linkorcut.papers import stands
 from linkorcut.parts import winner_of
@@ -78,7 +78,7 @@ class PaperHand:
         self.side = side
         self.first = step[0]
         self.rows = step[1]
-        self.net = put_in_order(net[0], net[1])
+        self.net = own_net(net)
         if self.first is not None:
             self.net = done_by(net, side, self.first)
         self.untold = begins
@@ -104,7 +104,7 @@ class PaperHand:
 
     def lying(self):
         """The net behind all deeds."""
-        return put_in_order(self.net[0], self.net[1])
+        return own_net(self.net)
 
     def next_tie(self, taken):
         """Its opening when it begins and is asked at first, else its answer."""

@@ -49,6 +49,11 @@ def put_in_order(poles, ties):
     return ((min(poles[0], poles[1]), max(poles[0], poles[1])), sorted(named))
 
 
+def own_net(net):
+    """An equal net, made anew: what becomes of the one changes nothing in the other."""
+    return put_in_order(net[0], net[1])
+
+
 def places_of(net):
     """The sorted list of the places: the poles and the ends of the ties."""
     places = list(net[0])

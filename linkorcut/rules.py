@@ -1,6 +1,6 @@
 """Rules: the ranks of rows of the ties of a net and of its thought tie."""
 
-from linkorcut.nets import names_of, places_of, put_in_order
+from linkorcut.nets import names_of, own_net, places_of
 from linkorcut.parts import firsts_by
 
 THOUGHT = -1
@@ -10,8 +10,7 @@ class Rule:
     """The plain rule: the rank of a row is the number of its names."""
 
     def __init__(self, net):
-        # Its own net: what becomes of the one handed in changes nothing here.
-        self.net = put_in_order(net[0], net[1])
+        self.net = own_net(net)
         self.places = places_of(self.net)
         self.ends = {THOUGHT: self.net[0]}
         for name, one, other in self.net[1]:

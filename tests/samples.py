@@ -1,5 +1,6 @@
 """Nets for the tests, and what the document tells of them reckoned the long way, without the package."""
 
+import copy
 import itertools
 
 SIXTY = 10 ** 60 - 1
@@ -199,6 +200,33 @@ def played_word(net):
     seen = {}
     winners = [played(net, side, seen) for side in SIDES]
     return winners[0] if winners[0] == winners[1] else "first"
+
+
+def drawn_answers(seed):
+    """A hand without a plan, the same each time."""
+    chance = figures(seed)
+    return lambda net, taken: names(net)[next(chance) % len(net[1])]
+
+
+def referee(net, begins, hands):
+    """Two hands play to the end; tells the winner and the deeds."""
+    side, taken, deeds = begins, None, []
+    while won(net) is None:
+        taken = hands[side](copy.deepcopy(net), taken)
+        net = behind(net, side, taken)
+        deeds.append((side, taken))
+        side = other(side)
+    return won(net), deeds
+
+
+def lists(told):
+    """All lists and tuples within what is told."""
+    if not isinstance(told, (list, tuple)):
+        return []
+    found = [told]
+    for each in told:
+        found.extend(lists(each))
+    return found
 
 
 def steps(counts):

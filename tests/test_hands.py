@@ -4,8 +4,9 @@ import copy
 import itertools
 import unittest
 
+import cases
 import samples
-from linkorcut.errors import NetError, NoPaper, NotThere, Over
+from linkorcut.errors import NoPaper, NotThere, Over
 from linkorcut.hands import PaperHand, mended, paper_hand, wish_hand
 from linkorcut.outcomes import outcome
 
@@ -62,12 +63,6 @@ def told_papers(nets):
             yield net, told[0], (told[1][1], told[1][0])
 
 
-def drawn_answers(seed):
-    """A hand without a plan, the same each time."""
-    chance = samples.figures(seed)
-    return lambda net, taken: samples.names(net)[next(chance) % len(net[1])]
-
-
 def wins_so(net, side, begins):
     word = outcome(net)[0]
     return word == side or (word == "first" and begins)
@@ -77,13 +72,7 @@ def sides_and_turns():
     return itertools.product(samples.SIDES, (True, False))
 
 
-class Case(unittest.TestCase):
-
-    def assert_refused(self, refusal, deed, *things):
-        with self.assertRaises(NetError) as caught:
-            deed(*things)
-        self.assertIs(type(caught.exception), refusal)
-        return caught.exception
+class Case(cases.Case):
 
     def assert_mended(self, net, side, paper, taken):
         told = mended(net, side, copy.deepcopy(paper), taken)
@@ -180,7 +169,7 @@ class Mended(Case):
 
     def test_again_and_again(self):
         for at, (net, side, paper) in enumerate(told_papers(samples.nets_by(25, 12, 7))):
-            taker = drawn_answers(at)
+            taker = samples.drawn_answers(at)
             while net[1]:
                 taken = taker(net, None)
                 answer, told = self.assert_mended(net, side, paper, taken)
@@ -376,7 +365,7 @@ class Played(Followed):
             for side, begins in sides_and_turns():
                 if wins_so(net, side, begins):
                     hand, left, paper = self.start(net, side, begins)
-                    taker = drawn_answers(at)
+                    taker = samples.drawn_answers(at)
                     many = 0
                     while samples.won(left) is None:
                         left, paper = self.step(hand, side, left, paper, taker(left, None))
@@ -388,7 +377,7 @@ class Played(Followed):
     def test_many_drawn_answers_on_one_net(self):
         for seed in range(25):
             hand = PaperHand(samples.FULL, "linker", False)
-            taker = drawn_answers(seed)
+            taker = samples.drawn_answers(seed)
             while samples.won(hand.lying()) is None:
                 hand.answer(taker(hand.lying(), None))
                 self.assertTrue(samples.is_paper(hand.lying(), "linker", hand.paper()))
@@ -402,7 +391,7 @@ class Played(Followed):
             (samples.strands([2, 2, 2, 1, 2, 2, 3]), "cutter", True)]
         for at, (net, side, begins) in enumerate(games):
             hand, left, paper = self.start(net, side, begins)
-            taker = drawn_answers(at)
+            taker = samples.drawn_answers(at)
             while samples.won(left) is None:
                 left, paper = self.step(hand, side, left, paper, taker(left, None))
             self.assertEqual(samples.won(left), side)
@@ -493,17 +482,6 @@ class HandsRefused(Followed):
                 left, paper = self.step(hand, "linker", left, paper, taken)
 
 
-def referee(net, begins, hands):
-    """Two hands play to the end; tells the winner and the deeds."""
-    side, taken, deeds = begins, None, []
-    while samples.won(net) is None:
-        taken = hands[side](copy.deepcopy(net), taken)
-        net = samples.behind(net, side, taken)
-        deeds.append((side, taken))
-        side = samples.other(side)
-    return samples.won(net), deeds
-
-
 class PaperHandsAsked(Followed):
 
     def test_by_the_names_of_the_interface(self):
@@ -525,7 +503,8 @@ class PaperHandsAsked(Followed):
             for side, begins in sides_and_turns():
                 if not wins_so(net, side, begins) or samples.won(net) is not None:
                     continue
-                kept, hand, taker = PaperHand(net, side, begins), paper_hand(net, side, begins), drawn_answers(at)
+                kept, hand = PaperHand(net, side, begins), paper_hand(net, side, begins)
+                taker = samples.drawn_answers(at)
                 if begins:
                     self.assertEqual(hand(net, None), kept.opening())
                 while samples.won(kept.lying()) is None:
@@ -574,17 +553,17 @@ class PaperHandsAsked(Followed):
         for at, net in enumerate(samples.nets_by(25, 10, 6) + [samples.FULL]):
             for side, begins in sides_and_turns():
                 if wins_so(net, side, begins):
-                    other = samples.other(side)
-                    for against in (drawn_answers(at), wish_hand([]), wish_hand(samples.mixed(samples.names(net), 3))):
+                    other, wishes = samples.other(side), samples.mixed(samples.names(net), 3)
+                    for against in (samples.drawn_answers(at), wish_hand([]), wish_hand(wishes)):
                         hands = {side: paper_hand(net, side, begins), other: against}
-                        self.assertEqual(referee(net, side if begins else other, hands)[0], side)
+                        self.assertEqual(samples.referee(net, side if begins else other, hands)[0], side)
 
     def test_both_by_papers(self):
         net = samples.steps([2, 1, 2])
         for begins in samples.SIDES:
             self.assert_refused(NoPaper, paper_hand, net, samples.other(begins), False)
             hands = {begins: paper_hand(net, begins, True), samples.other(begins): wish_hand([7])}
-            self.assertEqual(referee(net, begins, hands)[0], begins)
+            self.assertEqual(samples.referee(net, begins, hands)[0], begins)
 
 
 class WishHands(Case):
@@ -745,7 +724,7 @@ class KeptApart(Followed):
                 if wins_so(net, side, begins):
                     told = []
                     for turn in range(2):
-                        hand, taker = PaperHand(copy.deepcopy(net), side, begins), drawn_answers(at)
+                        hand, taker = PaperHand(copy.deepcopy(net), side, begins), samples.drawn_answers(at)
                         told.append([hand.opening(), hand.paper(), hand.lying()])
                         while samples.won(hand.lying()) is None:
                             told[-1].append((hand.answer(taker(hand.lying(), None)), hand.paper(), hand.lying()))

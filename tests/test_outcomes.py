@@ -254,15 +254,6 @@ class KeptApart(Case):
             asked.append(lambda side=side: wins(net, side))
         return asked
 
-    def lists(self, told):
-        """All lists and tuples within what is told."""
-        if not isinstance(told, (list, tuple)):
-            return []
-        found = [told]
-        for each in told:
-            found.extend(self.lists(each))
-        return found
-
     def nets(self):
         return samples.NAMED + [samples.steps([2, 1, 2]), samples.strands([2, 1])]
 
@@ -278,7 +269,7 @@ class KeptApart(Case):
             net = copy.deepcopy(kept)
             for ask in self.asked(net):
                 before = copy.deepcopy(ask())
-                for each in self.lists(ask()):
+                for each in samples.lists(ask()):
                     if isinstance(each, list):
                         each.append(77)
                         each.reverse()
@@ -288,7 +279,7 @@ class KeptApart(Case):
         for net in self.nets():
             for ask in self.asked(net):
                 one, other = ask(), ask()
-                every = self.lists(one) + self.lists(other) + self.lists(net)
+                every = samples.lists(one) + samples.lists(other) + samples.lists(net)
                 self.assertEqual(len({id(each) for each in every}), len(every))
 
     def test_a_change_of_what_was_handed_in_changes_nothing_told(self):
